@@ -61,6 +61,20 @@ def bound_names():
             yield name, node.id
 
 
+def value_names():
+    """The values that objects are given, by name."""
+    for name, node in all_nodes(ast.Attribute):
+        if isinstance(node.ctx, ast.Store):
+            yield name, node.attr
+
+
+def called_name(node):
+    """The name by which a function or a method is called; None of all else."""
+    if not isinstance(node, ast.Call):
+        return None
+    return node.func.id if isinstance(node.func, ast.Name) else getattr(node.func, "attr", None)
+
+
 class Language(unittest.TestCase):
     def test_files(self):
         self.assertIn("__init__", SOURCES)
@@ -152,6 +166,56 @@ class Language(unittest.TestCase):
         for name, node in all_nodes(ast.Call):
             if isinstance(node.func, ast.Attribute):
                 self.assertIn(node.func.attr, set(METHODS) | own, (name, node.lineno))
+
+    def test_methods_and_values_have_names_of_their_own(self):
+        methods = [inner.name for _, node in all_nodes(ast.ClassDef) for inner in node.body if hasattr(inner, "name")]
+        for name, value in value_names():
+            self.assertNotIn(value, methods, name)
+            for own in ("", 0, [], (), {}, set(), b""):
+                self.assertFalse(hasattr(own, value), (name, value))
+        for name, node in all_nodes(ast.ClassDef):
+            inside = [inner.name for inner in node.body if hasattr(inner, "name")]
+            self.assertEqual(len(inside), len(set(inside)), (name, node.name))
+
+    def test_locals_are_not_called_like_classes_and_imports(self):
+        for name, tree in TREES.items():
+            taken = {top.name for top in tree.body if isinstance(top, ast.ClassDef)}
+            for top in tree.body:
+                if isinstance(top, ast.ImportFrom):
+                    taken |= {alias.name for alias in top.names}
+            for node in ast.walk(tree):
+                if isinstance(node, ast.arg):
+                    self.assertNotIn(node.arg, taken, (name, node.lineno))
+                if isinstance(node, ast.Name) and isinstance(node.ctx, ast.Store):
+                    self.assertNotIn(node.id, taken, (name, node.lineno))
+
+    def test_what_is_walked_is_walked_at_once(self):
+        walked = ("zip", "enumerate", "reversed", "range", "items", "keys", "values")
+        takers = ("list", "tuple", "dict", "sorted", "sum", "any", "all", "enumerate", "zip", "min", "max", "join")
+        for name, tree in TREES.items():
+            at_once = []
+            for node in ast.walk(tree):
+                if isinstance(node, (ast.For, ast.comprehension)):
+                    at_once.append(node.iter)
+                if called_name(node) in takers:
+                    at_once.extend(node.args)
+            for node in ast.walk(tree):
+                if called_name(node) in walked:
+                    self.assertIn(node, at_once, (name, node.lineno))
+
+    def test_what_a_loop_walks_is_not_changed_in_it(self):
+        changes = ("append", "clear", "extend", "insert", "pop", "remove", "reverse", "setdefault", "update")
+        for name, loop in all_nodes(ast.For):
+            walked = {node.id for node in ast.walk(loop.iter) if isinstance(node, ast.Name)}
+            for node in ast.walk(loop):
+                if called_name(node) in changes and isinstance(node.func.value, ast.Name):
+                    self.assertNotIn(node.func.value.id, walked, (name, node.lineno))
+
+    def test_sets_are_not_kept(self):
+        for name, node in all_nodes(ast.Assign, ast.Return, ast.For):
+            value = node.iter if isinstance(node, ast.For) else node.value
+            self.assertNotIsInstance(value, ast.Set, (name, node.lineno))
+            self.assertNotIn(called_name(value), ("set", "frozenset"), (name, node.lineno))
 
     def test_is_stands_beside_none_and_truths(self):
         for name, node in all_nodes(ast.Compare):
