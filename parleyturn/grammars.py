@@ -95,5 +95,28 @@ def renamed(grammar, hands, numbers):
 def renamed_place(place, hands, numbers):
     if place == END:
         return END
+    return ("say", hands[place[1]], hands[place[2]], renumbered(place, numbers)[3])
+
+
+# The place with choices that lead to numbers[n] where they led to n.
+def renumbered(place, numbers):
+    if place == END:
+        return END
     choices = [(word, kind, numbers[number]) for word, kind, number in place[3]]
-    return ("say", hands[place[1]], hands[place[2]], tuple(choices))
+    return place[:3] + (tuple(choices),)
+
+
+# The numbers of the places to which one comes from a place, in the order of first coming, place by place, choice by
+# choice, each with the least number of words that lead there.
+def comings(places, start):
+    steps = {start: 0}
+    numbers = [start]
+    looked_at = 0
+    while looked_at < len(numbers):
+        here = numbers[looked_at]
+        for choice in choices_at(places[here]):
+            if choice[2] not in steps:
+                steps[choice[2]] = steps[here] + 1
+                numbers.append(choice[2])
+        looked_at += 1
+    return steps
