@@ -142,6 +142,7 @@ def is_even(grammar, hand, group):
     return False
 
 
+@lru_cache(maxsize=None)
 def part_by_sets(grammar, hand):
     """The part of a hand, set by set as in 3.1 and 3.2; None where a set is not even."""
     def own(place):
@@ -288,6 +289,31 @@ def fair_grammars():
     return tuple(grammars)
 
 
+def goes_round(grammar):
+    """Whether some way goes on for ever."""
+    places = grammar[1]
+    return any(number in reached(grammar, nexts(places[number])) for number in reached(grammar, {0}))
+
+
+@lru_cache(maxsize=None)
+def ending_grammars():
+    """Fair grammars of 2 to 4 hands, no way of which goes on for ever."""
+    dice = Dice(13)
+    grammars = []
+    for round_number in range(40):
+        for hands in (2, 3, 3, 4, 4):
+            grammar = (hands, (END,))
+            for change in range(10 + dice.below(50)):
+                told = trimmed(changed(dice, grammar))
+                if len(told[1]) <= 12 and not goes_round(told) and is_fair_by_sets(told):
+                    grammar = told
+            # Several ends in the place of one keep it fair.
+            if dice.below(2):
+                grammar = trimmed(split(dice, grammar, grammar[1].index(END)))
+            grammars.append(grammar)
+    return tuple(grammars)
+
+
 @lru_cache(maxsize=None)
 def made_grammars():
     """Grammars of all sorts, fair ones and such that are not."""
@@ -345,6 +371,42 @@ def moves_on(grammar, hand, way):
     return moves
 
 
+class Written:
+    """What 4.1 and 4.2 tell of a hall in which the hands go by these parts, step by step."""
+
+    def __init__(self, parts):
+        self.hands = len(parts)
+        self.parts = parts
+        self.at = [0] * self.hands
+        self.logs = [()] * self.hands
+        self.mail = {(one, other): () for one in range(self.hands) for other in range(self.hands)}
+
+    def do(self, move):
+        hand = move[1]
+        role, partner, choices = self.parts[hand][self.at[hand]]
+        if move[0] == "say":
+            letter = move[2:]
+            self.mail[hand, partner] += (letter,)
+        else:
+            letter, self.mail[partner, hand] = self.mail[partner, hand][0], self.mail[partner, hand][1:]
+        self.logs[hand] += ((role, partner) + letter,)
+        self.at[hand] = {word: state for word, kind, state in choices}[letter[0]]
+        return None if move[0] == "say" else (partner,) + letter
+
+    def told(self):
+        hears = []
+        says = []
+        for hand, state in enumerate(self.at):
+            here = self.parts[hand][state]
+            if here[0] == "hears" and self.mail[here[1], hand]:
+                hears.append(("hear", hand))
+            if here[0] == "says":
+                says.extend(("say", hand, word) for word, kind, to in here[2])
+        over = all(self.parts[hand][state] == END for hand, state in enumerate(self.at)) and not any(self.mail.values())
+        mail = tuple(self.mail[one, other] for one in range(self.hands) for other in range(self.hands))
+        return (tuple(self.at), tuple(self.logs), mail, tuple(sorted(hears) + sorted(says)), over)
+
+
 def do(hall, move):
     if move[0] == "hear":
         return hall.hear(*move[1:])
@@ -360,3 +422,77 @@ def all_told(hall, hands):
         hall.can(),
         hall.is_over(),
     )
+
+
+def narrower(dice, kind):
+    """A kind that lies within another one."""
+    if kind[0] == "number" and kind[1] < kind[2]:
+        return dice.one_of((kind, ("number", kind[1] + 1, kind[2]), ("number", kind[1], kind[2] - 1)))
+    if kind[0] == "name" and len(kind[1]) > 1:
+        return dice.one_of((kind, ("name", kind[1][1:]), ("name", kind[1][:-1])))
+    if kind[0] == "row" and kind[2] > 0:
+        return dice.one_of((kind, ("row", kind[1], kind[2] - 1), ("row", narrower(dice, kind[1]), kind[2])))
+    if kind[0] == "pair":
+        return ("pair", narrower(dice, kind[1]), narrower(dice, kind[2]))
+    return kind
+
+
+def wider(dice, kind):
+    """A kind within which another one lies."""
+    if kind[0] == "number":
+        return dice.one_of((kind, ("number", kind[1] - 1, kind[2]), ("number", kind[1], kind[2] + 1)))
+    if kind[0] == "name":
+        return dice.one_of((kind, ("name", tuple(sorted(kind[1] + ("mid",))))))
+    if kind[0] == "row":
+        return dice.one_of((kind, ("row", kind[1], kind[2] + 1), ("row", wider(dice, kind[1]), kind[2])))
+    if kind[0] == "pair":
+        return ("pair", wider(dice, kind[1]), wider(dice, kind[2]))
+    return kind
+
+
+def reordered(dice, part):
+    """The part with its states in another order, state 0 still the first one."""
+    numbers = made_numbers(dice, len(part), fixed=1)
+    states = [None] * len(part)
+    for number, state in enumerate(part):
+        if state != END:
+            state = state[:2] + (tuple((word, kind, numbers[to]) for word, kind, to in state[2]),)
+        states[numbers[number]] = state
+    return tuple(states)
+
+
+def doubled(dice, part):
+    """A part that does the same, with each state twice: words lead to the one or the other."""
+    states = []
+    for state in part * 2:
+        if state != END:
+            choices = [(word, kind, dice.one_of((to, to + len(part)))) for word, kind, to in state[2]]
+            state = state[:2] + (tuple(choices),)
+        states.append(state)
+    return tuple(states)
+
+
+def lesser_state(dice, state, count):
+    if state == END:
+        return END
+    choices = list(state[2])
+    if state[0] == "says":
+        while len(choices) > 1 and dice.below(2):
+            choices.pop(dice.below(len(choices)))
+        choices = [(word, narrower(dice, kind), to) for word, kind, to in choices]
+    else:
+        choices = [(word, wider(dice, kind), to) for word, kind, to in choices]
+        known = [choice[0] for choice in choices]
+        choices += [made_choice(dice, word, count) for word in ("b", "mor", "n") if word not in known and dice.below(2)]
+    return state[:2] + (tuple(sorted(choices)),)
+
+
+def lesser(dice, part):
+    """A part that stands for another one: it says less, and hears more, and its states stand in another order."""
+    if dice.below(2):
+        part = doubled(dice, part)
+    return reordered(dice, tuple(lesser_state(dice, state, len(part)) for state in part))
+
+
+def parts_of(grammar):
+    return tuple(part_by_sets(grammar, hand) for hand in range(grammar[0]))

@@ -4,8 +4,8 @@ import copy
 import unittest
 
 from helper import (
-    DIGIT, END, MARKET, ODD_THINGS, SIDE, TRADE, Dice, all_told, chain, do, fair_grammars, is_plain,
-    made_grammars, made_move, made_numbers, made_way, moves_on, part_by_sets, say, values_of,
+    DIGIT, END, MARKET, ODD_THINGS, SIDE, TRADE, Dice, Written, all_told, chain, do, fair_grammars, is_plain,
+    made_grammars, made_move, made_numbers, made_way, moves_on, parts_of, say, values_of,
 )
 from parleyturn.errors import NoMove, NoPart, TalkError
 from parleyturn.grammars import is_grammar, place_of, renamed
@@ -22,42 +22,6 @@ POST = (4, (
 ))
 
 NO_HANDS = (-1, -2, -100, -10 ** 5000, 10, 10 ** 9, 10 ** 5000)
-
-
-class Written:
-    """What 4.1 and 4.2 tell of a hall, step by step, from parts that are told by sets."""
-
-    def __init__(self, grammar):
-        self.hands = grammar[0]
-        self.parts = [part_by_sets(grammar, hand) for hand in range(self.hands)]
-        self.at = [0] * self.hands
-        self.logs = [()] * self.hands
-        self.mail = {(one, other): () for one in range(self.hands) for other in range(self.hands)}
-
-    def do(self, move):
-        hand = move[1]
-        role, partner, choices = self.parts[hand][self.at[hand]]
-        if move[0] == "say":
-            letter = move[2:]
-            self.mail[hand, partner] += (letter,)
-        else:
-            letter, self.mail[partner, hand] = self.mail[partner, hand][0], self.mail[partner, hand][1:]
-        self.logs[hand] += ((role, partner) + letter,)
-        self.at[hand] = {word: state for word, kind, state in choices}[letter[0]]
-        return None if move[0] == "say" else (partner,) + letter
-
-    def told(self):
-        hears = []
-        says = []
-        for hand, state in enumerate(self.at):
-            here = self.parts[hand][state]
-            if here[0] == "hears" and self.mail[here[1], hand]:
-                hears.append(("hear", hand))
-            if here[0] == "says":
-                says.extend(("say", hand, word) for word, kind, to in here[2])
-        over = all(self.parts[hand][state] == END for hand, state in enumerate(self.at)) and not any(self.mail.values())
-        mail = tuple(self.mail[one, other] for one in range(self.hands) for other in range(self.hands))
-        return (tuple(self.at), tuple(self.logs), mail, tuple(sorted(hears) + sorted(says)), over)
 
 
 class HallCase(unittest.TestCase):
@@ -422,7 +386,7 @@ class ManyTalks(HallCase):
         for grammar in fair_grammars():
             for length in (8, 40, 40):
                 hall = Hall(grammar)
-                written = Written(grammar)
+                written = Written(parts_of(grammar))
                 self.assertEqual(all_told(hall, grammar[0]), written.told())
                 while length > 0 and not hall.is_over():
                     self.assertNotEqual(hall.can(), (), grammar)
